@@ -1,0 +1,1 @@
+"""Partrests: numbers parted into parts, and what is left of their counts."""

@@ -1,0 +1,153 @@
+"""The tests' own reckoning: nothing here is drawn from the program."""
+
+import copy
+
+
+def all_partings(n):
+    """All partings of n, rising, each grown out of one of n - 1 by one."""
+    found = {()}
+    for step in range(n):
+        grown = set()
+        for parting in found:
+            grown.add(parting + (1,))
+            for at in range(len(parting)):
+                if at == 0 or parting[at - 1] > parting[at]:
+                    grown.add(parting[:at] + (parting[at] + 1,) + parting[at + 1:])
+        found = grown
+    return tuple(sorted(found))
+
+
+PARTINGS = {n: all_partings(n) for n in range(31)}
+
+
+def small_partings(most):
+    """All partings of 0 to most, one behind another."""
+    return [parting for n in range(most + 1) for parting in PARTINGS[n]]
+
+
+GREAT_PARTINGS = (
+    (300,),
+    (1,) * 300,
+    tuple(range(24, 0, -1)),
+    (150, 150),
+    (299, 1),
+    (2,) * 150,
+    (2,) + (1,) * 298,
+    (17,) * 17 + (11,),
+    (100, 60, 60, 30, 20, 10, 10, 5, 1, 1, 1, 1, 1),
+)
+
+
+def is_own(parting):
+    """Whether a parting turned is the same, by the cells of its drawing."""
+    cells = {(row, at) for row, part in enumerate(parting) for at in range(part)}
+    return cells == {(at, row) for row, at in cells}
+
+
+def is_of_kind(kind, parting):
+    """Whether a parting is of a kind, by the document's words."""
+    word, given = kind[0], kind[1:]
+    if word == "all":
+        return True
+    if word == "most":
+        return not any(part > given[0] for part in parting)
+    if word == "few":
+        return not len(parting) > given[0]
+    if word == "box":
+        return not any(part > given[0] for part in parting) and not len(parting) > given[1]
+    if word == "off":
+        return all(one >= nearest + given[0] for one, nearest in zip(parting, parting[1:]))
+    if word == "times":
+        return all(parting.count(part) < given[0] for part in parting)
+    if word == "rests":
+        return all(any((part - rest) % given[0] == 0 for rest in given[1]) for part in parting)
+    assert word == "own", word
+    return is_own(parting)
+
+
+def small_kinds():
+    """Kinds of every word, with numbers that matter to small partings and with their bounds."""
+    some = (1, 2, 3, 4, 5, 7, 10, 15, 29, 30, 31, 60, 599, 600)
+    told = [("all",), ("own",)]
+    for word in ("most", "few", "off"):
+        told += [(word, number) for number in some]
+    told += [("box", k, l) for k in (1, 2, 3, 5, 10, 29, 30, 60, 599, 600) for l in (1, 2, 4, 6, 30, 60, 599, 600)]
+    told += [("times", m) for m in (2, 3, 4, 5, 10, 30, 31, 59, 60)]
+    for m in (2, 3, 4, 5):
+        for mask in range(1, 2 ** m):
+            told.append(("rests", m, tuple(rest for rest in range(m) if mask >> rest & 1)))
+    told += [("rests", 60, (0,)), ("rests", 60, (59,)), ("rests", 60, (0, 59)), ("rests", 60, tuple(range(60)))]
+    told += [("rests", 59, (1, 5, 58)), ("rests", 7, (1, 6)), ("rests", 30, (0, 7, 29))]
+    return told
+
+
+def is_told(thing):
+    """Whether a thing is made of tuples, whole numbers, texts, truths and None alone."""
+    if type(thing) is tuple:
+        return all(is_told(inner) for inner in thing)
+    return thing is None or type(thing) in (int, str, bool)
+
+
+def same(one, other):
+    """Whether two things are alike and of the same kinds, so that 1 and True are told apart."""
+    return one == other and repr(one) == repr(other)
+
+
+def asked(deed, *given):
+    """What the deed tells; checked on the way is all that is promised of everything told."""
+    kept = copy.deepcopy(given)
+    told = deed(*given)
+    again = deed(*given)
+    assert is_told(told), ("of another kind", deed, told)
+    assert same(told, again), ("told otherwise when asked again", deed, told, again)
+    assert same(given, kept), ("changed what was handed in", deed, given, kept)
+    return told
+
+
+def nested(inner, wrap, deep):
+    """A thing wrapped so many times."""
+    for step in range(deep):
+        inner = wrap(inner)
+    return inner
+
+
+def odd_things():
+    """Things that are no tuples, and some tuples of such: neither partings nor kinds."""
+    plain = [
+        None, True, False, 0, 1, -1, 2, 10 ** 30, -10 ** 30, "", "all", "own", "1", "most 3", b"", b"all", b"1",
+        [], [1], [2, 1], ["all"], ["most", 3], {}, {1: 1}, {"all": ()}, set(), {1}, {"all"}, frozenset(), frozenset({1}),
+        range(0), range(1), range(3, 0, -1), bytearray(b"a"), len, int, tuple, Exception("all"), slice(1, 2), ...,
+        NotImplemented, 1j, lambda: (1,), iter((1,)),
+    ]
+    wrapped = [(thing,) for thing in plain if not (type(thing) is int and thing > 0) and thing not in ("all", "own")]
+    wrapped += [(1, thing) for thing in plain if not (type(thing) is int and thing == 1)]
+    deep = []
+    for inner in ((), 1, None, "all", True, [1], ("all",)):
+        for many in (1, 2, 3, 29):
+            deep.append(nested((inner,), lambda thing: (thing,), many))
+            deep.append(nested((inner,), lambda thing: (1, thing), many))
+            deep.append(nested((inner,), lambda thing: (thing, 1), many))
+            deep.append(nested((inner,), lambda thing: [thing], many))
+            deep.append(nested((inner,), lambda thing: {"all": thing}, many))
+    return plain + wrapped + deep
+
+
+class Prickly:
+    """A thing that takes no question well: it is to be told as none, without an error."""
+
+    def __eq__(self, other):
+        raise RuntimeError("not to be compared")
+
+    def __lt__(self, other):
+        raise RuntimeError("not to be compared")
+
+    __gt__ = __le__ = __ge__ = __ne__ = __lt__
+
+    def __hash__(self):
+        raise RuntimeError("not to be a key")
+
+    def __bool__(self):
+        raise RuntimeError("no truth")
+
+    def __len__(self):
+        raise RuntimeError("not long")
