@@ -151,3 +151,39 @@ class Prickly:
 
     def __len__(self):
         raise RuntimeError("not long")
+
+
+GREAT_NUMBERS = (1, 2, 3, 7, 59, 60, 61, 300, 597, 598, 599, 600)
+
+
+def great_kinds():
+    """Kinds of every word with their numbers at their bounds, near them and between, for great counts."""
+    told = [("all",), ("own",)]
+    for word in ("most", "few", "off"):
+        told += [(word, number) for number in GREAT_NUMBERS]
+    told += [("times", m) for m in (2, 3, 7, 59, 60)]
+    told += [("rests", 2, (0,)), ("rests", 2, (1,)), ("rests", 2, (0, 1)), ("rests", 5, (1, 4)), ("rests", 5, (2, 3)),
+             ("rests", 60, (0,)), ("rests", 60, (59,)), ("rests", 60, (0, 59)), ("rests", 60, (1, 7, 30)),
+             ("rests", 60, tuple(range(60))), ("rests", 59, tuple(range(1, 59)))]
+    some = (1, 2, 60, 599, 600)
+    told += [("box", k, l) for k in some for l in some] + [("box", 12, 20), ("box", 25, 24), ("box", 300, 301)]
+    return told
+
+
+def scattered(many, most, seed):
+    """A list of so many numbers from -most to most that follow no plain rule, the same each time."""
+    told = []
+    for step in range(many):
+        seed = (seed * 1103515245 + 12345) % 2 ** 31
+        told.append(seed // 64 % (2 * most + 1) - most)
+    return told
+
+
+def multiplied(one, other):
+    """Both rows multiplied, to the shorter one's length, by going through all pairs of places."""
+    many = min(len(one), len(other))
+    told = [0] * many
+    for i in range(many):
+        for j in range(many - i):
+            told[i + j] += one[i] * other[j]
+    return tuple(told)
