@@ -187,3 +187,13 @@ def multiplied(one, other):
         for j in range(many - i):
             told[i + j] += one[i] * other[j]
     return tuple(told)
+
+
+def product_by_words(powers):
+    """product, place by place in the words of the document."""
+    row = [1] + [0] * len(powers)
+    for i, power in enumerate(powers, start=1):
+        for turn in range(abs(power)):
+            for n in range(i, len(row)) if power > 0 else range(len(row) - 1, i - 1, -1):
+                row[n] += row[n - i] if power > 0 else -row[n - i]
+    return tuple(row)

@@ -5,7 +5,7 @@ import itertools
 import math
 import unittest
 
-from reckoning import asked, great_kinds, multiplied, scattered
+from reckoning import asked, great_kinds, multiplied, product_by_words, scattered
 
 from partrests.counting import counts
 from partrests.errors import NoRow, PartError
@@ -13,16 +13,6 @@ from partrests.products import by_steps, powers_found, product, steps_of
 from partrests.rows import times, undone
 
 GREAT = 10 ** 6
-
-
-def by_words(powers):
-    """product, place by place in the words of the document."""
-    row = [1] + [0] * len(powers)
-    for i, power in enumerate(powers, start=1):
-        for turn in range(abs(power)):
-            for n in range(i, len(row)) if power > 0 else range(len(row) - 1, i - 1, -1):
-                row[n] += row[n - i] if power > 0 else -row[n - i]
-    return tuple(row)
 
 
 def by_factors(powers):
@@ -72,7 +62,7 @@ class Product(unittest.TestCase):
         for many in range(5):
             for powers in itertools.product(range(-3, 4), repeat=many):
                 told = asked(product, powers)
-                self.assertEqual(told, by_words(powers), powers)
+                self.assertEqual(told, product_by_words(powers), powers)
                 self.assertEqual(told, by_factors(powers), powers)
 
     def test_the_edges(self):
@@ -87,14 +77,14 @@ class Product(unittest.TestCase):
         for powers in great_powers():
             told = asked(product, powers)
             self.assertEqual(len(told), 121)
-            self.assertEqual(told, by_words(powers))
+            self.assertEqual(told, product_by_words(powers))
             self.assertEqual(told, by_factors(powers))
 
     def test_long_powers(self):
         for powers in long_powers():
             told = asked(product, powers)
             self.assertEqual(len(told), 601)
-            self.assertEqual(told, by_words(powers))
+            self.assertEqual(told, product_by_words(powers))
         self.assertEqual(product((1,) * 600), counts(("all",), 600))
 
     def test_of_found_powers(self):
@@ -107,7 +97,7 @@ class PowersFound(unittest.TestCase):
     def test_of_all_short_products(self):
         for many in range(5):
             for powers in itertools.product(range(-3, 4), repeat=many):
-                self.assertEqual(asked(powers_found, by_words(powers)), powers)
+                self.assertEqual(asked(powers_found, product_by_words(powers)), powers)
 
     def test_of_all_short_rows(self):
         for many in range(5):
@@ -242,7 +232,7 @@ class BySteps(unittest.TestCase):
             self.assertEqual(asked(by_steps, steps_of(powers)), product(powers))
         for many in range(5):
             for powers in itertools.product(range(-2, 3), repeat=many):
-                self.assertEqual(by_steps(steps_of(powers)), by_words(powers))
+                self.assertEqual(by_steps(steps_of(powers)), product_by_words(powers))
 
 
 if __name__ == "__main__":
