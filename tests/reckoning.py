@@ -197,3 +197,46 @@ def product_by_words(powers):
             for n in range(i, len(row)) if power > 0 else range(len(row) - 1, i - 1, -1):
                 row[n] += row[n - i] if power > 0 else -row[n - i]
     return tuple(row)
+
+
+def rank_by_parts(parting):
+    """rank, part by part."""
+    greatest = many = 0
+    for part in parting:
+        greatest = max(greatest, part)
+        many += 1
+    return greatest - many
+
+
+def mark_by_parts(parting):
+    """mark, part by part."""
+    greatest = ones = above = 0
+    for part in parting:
+        greatest = max(greatest, part)
+        ones += 1 if part == 1 else 0
+    for part in parting:
+        above += 1 if part > ones else 0
+    return above - ones if ones else greatest
+
+
+def beads_by_words(parting, k):
+    """The set of beads: each part, noughts behind them, and how many stand behind it put to it."""
+    parts = list(parting) + [0] * (k - len(parting))
+    return {part + len(parts[at + 1:]) for at, part in enumerate(parts)}
+
+
+def parting_by_gaps(beads):
+    """The parting that has these beads: each bead's part is how many places below it are free."""
+    parts = [len([place for place in range(bead) if place not in beads]) for bead in beads]
+    return tuple(sorted([part for part in parts if part > 0], reverse=True))
+
+
+def vector_by_words(parting, t, k):
+    """For each rest how many beads leave it, less k // t, where k is some multiple of t."""
+    beads = beads_by_words(parting, k)
+    return tuple(len([bead for bead in beads if bead % t == rest]) - k // t for rest in range(t))
+
+
+def enough_beads(parting, t):
+    """The least k for beads of the parting by t."""
+    return min(k for k in range(0, len(parting) + t, t) if k >= len(parting))

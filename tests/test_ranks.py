@@ -2,29 +2,9 @@
 
 import unittest
 
-from reckoning import GREAT_PARTINGS, asked, small_partings
+from reckoning import GREAT_PARTINGS, asked, mark_by_parts, rank_by_parts, small_partings
 
 from partrests.ranks import mark, rank
-
-
-def rank_by_parts(parting):
-    """rank, part by part."""
-    greatest = many = 0
-    for part in parting:
-        greatest = max(greatest, part)
-        many += 1
-    return greatest - many
-
-
-def mark_by_parts(parting):
-    """mark, part by part."""
-    greatest = ones = above = 0
-    for part in parting:
-        greatest = max(greatest, part)
-        ones += 1 if part == 1 else 0
-    for part in parting:
-        above += 1 if part > ones else 0
-    return above - ones if ones else greatest
 
 
 class Rank(unittest.TestCase):
