@@ -1,6 +1,7 @@
 """The tests' own reckoning: nothing here is drawn from the program."""
 
 import copy
+import fractions
 
 
 def all_partings(n):
@@ -240,3 +241,138 @@ def vector_by_words(parting, t, k):
 def enough_beads(parting, t):
     """The least k for beads of the parting by t."""
     return min(k for k in range(0, len(parting) + t, t) if k >= len(parting))
+
+
+def apart_by_words(parting, t, k):
+    """apart, with k beads, in the words of the document."""
+    beads = beads_by_words(parting, k)
+    by_rest = [[bead for bead in beads if bead % t == rest] for rest in range(t)]
+    least = {rest + t * at for rest in range(t) for at in range(len(by_rest[rest]))}
+    quotients = tuple(parting_by_gaps({(bead - rest) // t for bead in by_rest[rest]}) for rest in range(t))
+    return (parting_by_gaps(least), quotients)
+
+
+RESTS = {5: 4, 7: 5, 11: 6}
+
+ROUNDS_AS_WRITTEN = {
+    5: "4, 2+2, 1+1+1+1, 2+1+1, 3+1",
+    7: "5, 3+1+1, 1+1+1+1+1, 3+2, 2+1+1+1, 4+1, 2+2+1",
+    11: "6, 2+2+2, 3+1+1+1, 4+2, 2+1+1+1+1, 3+2+1, 5+1, 2+2+1+1, 4+1+1, 3+3, 1+1+1+1+1+1",
+}
+
+
+def round_as_written(t):
+    return tuple(tuple(int(part) for part in word.split("+")) for word in ROUNDS_AS_WRITTEN[t].split(", "))
+
+
+def vectors_by_words(t):
+    return [vector_by_words(parting, t, enough_beads(parting, t)) for parting in round_as_written(t)]
+
+
+def inverse(rows):
+    """The matrix that undoes this one, in fractions, row by row."""
+    many = len(rows)
+    rows = [[fractions.Fraction(number) for number in row] + [fractions.Fraction(int(at == other)) for other in
+            range(many)] for at, row in enumerate(rows)]
+    for at in range(many):
+        best = next(row for row in range(at, many) if rows[row][at] != 0)
+        rows[at], rows[best] = rows[best], rows[at]
+        rows[at] = [number / rows[at][at] for number in rows[at]]
+        for other in range(many):
+            if other != at:
+                rows[other] = [one - rows[other][at] * two for one, two in zip(rows[other], rows[at])]
+    return [row[many:] for row in rows]
+
+
+def undoing(t):
+    """What leads a vector's numbers, 1 in the place of the last one, to the frame's, whole or not."""
+    columns = vectors_by_words(t)
+    rows = [[column[rest] for column in columns] for rest in range(t - 1)]
+    return inverse(rows + [[1] * t])
+
+
+UNDOING = {t: undoing(t) for t in RESTS}
+
+
+def frame_in_fractions(t, numbers):
+    given = list(numbers[:-1]) + [1]
+    return [sum(one * two for one, two in zip(row, given)) for row in UNDOING[t]]
+
+
+def refusal(deed, *given):
+    """The class by which the deed refuses, None where it tells something; asked twice, and of unchanged things."""
+    kept = repr(given)
+    found = []
+    for time in range(2):
+        try:
+            deed(*given)
+            found.append(None)
+        except ValueError as error:
+            found.append(type(error))
+    assert found[0] is found[1], ("refused otherwise when asked again", deed, found)
+    assert repr(given) == kept, ("changed what was handed in", deed, given, kept)
+    return found[0]
+
+
+def scattered_parting(n, most, seed):
+    """A parting of n with no part above most that follows no plain rule, the same each time."""
+    parts = []
+    for number in scattered(n, 10 ** 6, seed):
+        left = n - sum(parts)
+        if left > 0:
+            parts.append(1 + abs(number) % min(left, most))
+    return tuple(sorted(parts, reverse=True))
+
+
+def partings_of_great(n):
+    """Some partings of a great number n: of one part, of ones, of like parts, in steps, and by no plain rule."""
+    told = [(n,), (1,) * n, (n - 1, 1), (2,) * (n // 2) + (1,) * (n % 2), (n - n // 2, n // 2)]
+    stairs = []
+    while sum(stairs) + len(stairs) + 1 <= n:
+        stairs.append(len(stairs) + 1)
+    told.append(tuple(sorted(stairs + [n - sum(stairs)] * (n > sum(stairs)), reverse=True)))
+    told += [scattered_parting(n, most, seed) for seed, most in enumerate((3, 8, 20, 60, n))]
+    return told
+
+
+def less_by_counts(parting, other):
+    """The parting with each part of the other taken off once, or None, by how often each size stands."""
+    left = []
+    for size in sorted(set(parting + other), reverse=True):
+        if parting.count(size) < other.count(size):
+            return None
+        left += [size] * (parting.count(size) - other.count(size))
+    return tuple(left)
+
+
+def are_events_by_words(thing):
+    """are_events, in the words of the document."""
+    if type(thing) is not tuple or len(thing) > 12:
+        return False
+    for event in thing:
+        if type(event) is not tuple or len(event) == 0 or not all(type(part) is int for part in event):
+            return False
+        if min(event) < 1 or sorted(event, reverse=True) != list(event):
+            return False
+    return not any(size in other for at, event in enumerate(thing) for size in event for other in thing[at + 1:])
+
+
+def odd_events():
+    """Things that look like events in part: of other kinds, too many, a size in two, no parting among them."""
+    good = ((3, 1, 1), (2,), (5,))
+    told = [
+        list(good), {event: True for event in good}, set(good), frozenset(good), iter(good), "321", b"321",
+        ([3, 1, 1], (2,)), ((3, 1, 1), [2]), ((2,), None), (None,), (True,), ((True,),), ((2, True),), ((False,),),
+        ((0,),), ((2, 0),), ((-1,),), ((1, 2),), ((2, 1, 2),), ((),), ((2,), ()), ((), (2,)), ((2,), (3,), ()),
+        ((2,), (2,)), ((2, 1), (3, 1)), ((5, 2, 2), (3,), (4, 2)), ((1, 1), (1,)), ((9,), (8,), (9, 9)),
+        (((2,),),), ((2,), ((3,),)), ("21",), ((2,), "3"), (("2",),), ((2,), ("3",)), (b"21",), ((b"2",),), (2,),
+        (2, 1), ((2,), 3), (3, (2,)), ({2},), ({2: 1},), (range(1),), ((10 ** 40,), [1]), (1j,), ((1j,),), (len,),
+        tuple((size,) for size in range(1, 14)), tuple((size, size) for size in range(13, 0, -1)), ((1,),) * 13,
+        ((),) * 3,
+        (Prickly(),), ((Prickly(),),), ((2, Prickly()),), ((2,), Prickly()), ((Prickly(), 2), (1,)),
+    ]
+    for inner in ((2,), (), 2, good, None, [2]):
+        for wrap in (lambda thing: (thing,), lambda thing: [thing], lambda thing: ((2,), thing),
+                     lambda thing: (thing, 1)):
+            told += [nested(inner, wrap, many) for many in (1, 2, 3, 29, 30)]
+    return told

@@ -4,23 +4,14 @@ import fractions
 import itertools
 import unittest
 
-from reckoning import GREAT_PARTINGS, PARTINGS, asked, beads_by_words, enough_beads, parting_by_gaps, scattered
-from reckoning import small_partings, vector_by_words
+from reckoning import GREAT_PARTINGS, PARTINGS, apart_by_words, asked, beads_by_words, enough_beads, parting_by_gaps
+from reckoning import scattered, small_partings, vector_by_words
 
 from partrests.cores import apart, core_of, is_core, joined, size_of, vector
 from partrests.errors import NoCore, PartError
 from partrests.hooks import hooks
 
 STEPS = range(1, 13)
-
-
-def apart_by_words(parting, t, k):
-    """apart, with k beads, in the words of the document."""
-    beads = beads_by_words(parting, k)
-    by_rest = [[bead for bead in beads if bead % t == rest] for rest in range(t)]
-    least = {rest + t * at for rest in range(t) for at in range(len(by_rest[rest]))}
-    quotients = tuple(parting_by_gaps({(bead - rest) // t for bead in by_rest[rest]}) for rest in range(t))
-    return (parting_by_gaps(least), quotients)
 
 
 def core_by_steps(parting, t):

@@ -1,32 +1,15 @@
 """Points 20 and 21, and 3 (d): round_of, vector_by, frame_of."""
 
-import fractions
 import itertools
 import unittest
 
-from reckoning import PARTINGS, asked, enough_beads, scattered, vector_by_words
+from reckoning import PARTINGS, RESTS, asked, frame_in_fractions, round_as_written, scattered, vectors_by_words
 
 from partrests.cores import core_of, is_core, size_of, vector
 from partrests.errors import NoTurn, PartError
 from partrests.frames import frame_of, round_of, vector_by
 
-RESTS = {5: 4, 7: 5, 11: 6}
-
-ROUNDS_AS_WRITTEN = {
-    5: "4, 2+2, 1+1+1+1, 2+1+1, 3+1",
-    7: "5, 3+1+1, 1+1+1+1+1, 3+2, 2+1+1+1, 4+1, 2+2+1",
-    11: "6, 2+2+2, 3+1+1+1, 4+2, 2+1+1+1+1, 3+2+1, 5+1, 2+2+1+1, 4+1+1, 3+3, 1+1+1+1+1+1",
-}
-
 GREAT = 10 ** 60 - 1
-
-
-def round_as_written(t):
-    return tuple(tuple(int(part) for part in word.split("+")) for word in ROUNDS_AS_WRITTEN[t].split(", "))
-
-
-def vectors_by_words(t):
-    return [vector_by_words(parting, t, enough_beads(parting, t)) for parting in round_as_written(t)]
 
 
 def vector_of_frame(t, frame):
@@ -45,36 +28,6 @@ def size_by_frame(t, frame):
     squares = sum(number ** 2 for number in frame)
     products = sum(frame[place] * frame[(place + 1) % t] for place in range(t))
     return t * (squares - products) - (t - RESTS[t])
-
-
-def inverse(rows):
-    """The matrix that undoes this one, in fractions, row by row."""
-    many = len(rows)
-    rows = [[fractions.Fraction(number) for number in row] + [fractions.Fraction(int(at == other)) for other in
-            range(many)] for at, row in enumerate(rows)]
-    for at in range(many):
-        best = next(row for row in range(at, many) if rows[row][at] != 0)
-        rows[at], rows[best] = rows[best], rows[at]
-        rows[at] = [number / rows[at][at] for number in rows[at]]
-        for other in range(many):
-            if other != at:
-                rows[other] = [one - rows[other][at] * two for one, two in zip(rows[other], rows[at])]
-    return [row[many:] for row in rows]
-
-
-def undoing(t):
-    """What leads a vector's numbers, 1 in the place of the last one, to the frame's, whole or not."""
-    columns = vectors_by_words(t)
-    rows = [[column[rest] for column in columns] for rest in range(t - 1)]
-    return inverse(rows + [[1] * t])
-
-
-UNDOING = {t: undoing(t) for t in RESTS}
-
-
-def frame_in_fractions(t, numbers):
-    given = list(numbers[:-1]) + [1]
-    return [sum(one * two for one, two in zip(row, given)) for row in UNDOING[t]]
 
 
 def is_whole_frame(frame):
