@@ -2,6 +2,7 @@
 
 import copy
 import fractions
+import re
 
 
 def all_partings(n):
@@ -376,3 +377,70 @@ def odd_events():
                      lambda thing: (thing, 1)):
             told += [nested(inner, wrap, many) for many in (1, 2, 3, 29, 30)]
     return told
+
+
+def parting_as_written(parting):
+    """The text of a parting, sign by sign."""
+    text = ""
+    for part in parting:
+        text += f"+{part}"
+    return text[1:] if parting else "-"
+
+
+def kind_as_written(kind):
+    """The text of a kind, sign by sign."""
+    text = kind[0]
+    for number in kind[1:]:
+        text += " " + repr(number).strip("(),").replace(", ", ",")
+    return text
+
+
+def changed_texts(text):
+    """Texts near this one: a sign left out, put in, exchanged, two neighbours in the other order."""
+    signs = "01259 +-,#\nax~"
+    told = [text, text + text, text[::-1], text.upper()]
+    for place in range(len(text) + 1):
+        told += [text[:place] + sign + text[place:] for sign in signs]
+    for place in range(len(text)):
+        told.append(text[:place] + text[place + 1:])
+        told += [text[:place] + sign + text[place + 1:] for sign in signs]
+        told.append(text[:place] + text[place:place + 2][::-1] + text[place + 2:])
+    return told
+
+
+NUMBER = "(?:0|[1-9][0-9]{0,5})"
+
+
+def falls(parting):
+    return list(parting) == sorted(parting, reverse=True)
+
+
+def parting_by_form(text):
+    """The parting that a text is by its form, None where it is none."""
+    if text == "-":
+        return ()
+    if len(text) > 2000 or not re.fullmatch(rf"{NUMBER}(?:\+{NUMBER})*", text):
+        return None
+    parts = tuple(int(word) for word in re.findall("[0-9]+", text))
+    return parts if falls(parts) and min(parts) > 0 else None
+
+
+def kind_by_form(text):
+    """The kind that a text is by its form, None where it is none."""
+    if text in ("all", "own"):
+        return (text,)
+    found = re.fullmatch(rf"(most|few|off|times) ({NUMBER})", text)
+    if found:
+        number = int(found[2])
+        fits = 2 <= number <= 60 if found[1] == "times" else 1 <= number <= 600
+        return (found[1], number) if fits else None
+    found = re.fullmatch(rf"box ({NUMBER}) ({NUMBER})", text)
+    if found:
+        k, l = int(found[1]), int(found[2])
+        return ("box", k, l) if 1 <= k <= 600 and 1 <= l <= 600 else None
+    found = re.fullmatch(rf"rests ({NUMBER}) ({NUMBER}(?:,{NUMBER})*)", text)
+    if found:
+        m, rests = int(found[1]), tuple(int(word) for word in found[2].split(","))
+        fits = 2 <= m <= 60 and list(rests) == sorted(set(rests)) and rests[-1] < m
+        return ("rests", m, rests) if fits else None
+    return None
