@@ -249,7 +249,8 @@ def answer(line):
     if not is_text(line):
         raise NoLine("this is no text, or too long")
     words = line.split(" ")
-    if words[0] not in DEEDS:
-        raise NoLine("the line begins with none of the words")
-    deed = DEEDS[words[0]]
+    word = words[0]
+    if word not in DEEDS:
+        raise NoLine("the line begins with none of the words that ask for something")
+    deed = DEEDS[word]
     return deed(words[1:])

@@ -155,6 +155,56 @@ class Language(unittest.TestCase):
                         if isinstance(sign, (ast.Is, ast.IsNot)):
                             self.assertIn(repr(getattr(right, "value", "")), ("None", "True", "False"), name)
 
+    def test_each_name_is_bound_once_at_a_top(self):
+        for name, tree in trees():
+            bound = [one.name for node in tree.body if isinstance(node, ast.ImportFrom) for one in node.names]
+            bound += [node.name for node in tree.body if isinstance(node, (ast.FunctionDef, ast.ClassDef))]
+            bound += [one.id for node in tree.body if isinstance(node, ast.Assign) for one in node.targets]
+            self.assertEqual(len(bound), len(set(bound)), name)
+
+    def test_every_name_drawn_is_used(self):
+        for name, tree in trees():
+            used = {node.id for node in ast.walk(tree) if isinstance(node, ast.Name)}
+            drawn = {one.name for node in tree.body if isinstance(node, ast.ImportFrom) for one in node.names}
+            self.assertLessEqual(drawn, used, name)
+
+    def test_errors_are_raised_and_taken_by_name(self):
+        errors = ast.parse((PACKAGE / "errors.py").read_text(encoding="ascii"))
+        own = {node.name for node in errors.body if isinstance(node, ast.ClassDef)}
+        for name, tree in trees():
+            for node in ast.walk(tree):
+                if isinstance(node, ast.Raise):
+                    self.assertIsInstance(node.exc, ast.Call, (name, node.lineno))
+                    self.assertIn(node.exc.func.id, own, (name, node.lineno))
+                    self.assertIn(ast.dump(node.cause or ast.Constant(None)), (ast.dump(ast.Constant(None)),))
+                if isinstance(node, ast.ExceptHandler):
+                    self.assertIn(getattr(node.type, "id", None), own, (name, node.lineno))
+
+    def test_texts_have_no_percent_and_no_format(self):
+        for name, tree in trees():
+            for node in ast.walk(tree):
+                if isinstance(node, ast.Constant) and isinstance(node.value, str):
+                    self.assertNotIn("%", node.value, (name, node.lineno))
+                if isinstance(node, ast.FormattedValue):
+                    self.assertIsNone(node.format_spec, (name, node.lineno))
+
+    def test_what_is_walked_is_not_kept(self):
+        for name, tree in trees():
+            for node in ast.walk(tree):
+                if isinstance(node, (ast.Assign, ast.AugAssign, ast.Return)) and isinstance(node.value, ast.Call):
+                    called = getattr(node.value.func, "id", getattr(node.value.func, "attr", ""))
+                    self.assertNotIn(called, ("range", "zip", "enumerate", "reversed", "items", "keys", "values"),
+                                     (name, node.lineno))
+
+    def test_sets_are_only_asked_how_many_they_are(self):
+        for name, tree in trees():
+            inside = [node.args[0] for node in ast.walk(tree) if isinstance(node, ast.Call)
+                      and getattr(node.func, "id", "") in ("len", "sorted") and node.args]
+            for node in ast.walk(tree):
+                self.assertNotIsInstance(node, (ast.Set, ast.SetComp), name)
+                if isinstance(node, ast.Call) and getattr(node.func, "id", "") in ("set", "frozenset"):
+                    self.assertIn(node, inside, (name, node.lineno))
+
 
 if __name__ == "__main__":
     unittest.main()
